@@ -1,0 +1,61 @@
+import importlib
+import inspect
+import unittest
+
+# Each file of the interface that has landed, with its functions: their parameters and defaults as written.
+FUNCTIONS = {
+    "toolroad.amounts": {
+        "is_number": "(thing)",
+        "ratio": "(top, bottom=1)",
+        "plus": "(u, v)",
+        "minus": "(u, v)",
+        "times": "(u, v)",
+        "over": "(u, v)",
+        "is_below": "(u, v)",
+        "whole": "(u)",
+        "root": "(u)",
+        "number_text": "(u)",
+    },
+    "toolroad.places": {
+        "heading_of": "(p, q)",
+        "turned": "(place, by)",
+        "distance": "(one, other)",
+        "heading_to": "(one, other)",
+    },
+}
+# The errors' values, by their places; those that are not here have none.
+VALUES = {
+    "NoText": ["at"], "Uneven": ["row"], "NoFrame": ["row"], "TooDeep": ["row"], "TooMany": ["most"],
+    "Unled": ["number"], "Gouge": ["number"], "Unmet": ["number"], "NoPiece": ["name"], "NoStep": ["number", "many"],
+}
+
+
+class InterfaceTest(unittest.TestCase):
+    def test_functions(self):
+        for file, functions in FUNCTIONS.items():
+            for name, due in functions.items():
+                with self.subTest(file=file, name=name):
+                    function = getattr(importlib.import_module(file), name)
+                    self.assertTrue(inspect.isfunction(function))
+                    self.assertEqual(str(inspect.signature(function)), due)
+                    self.assertEqual(function.__module__, file)
+                    self.assertEqual(function.__name__, name)
+
+    def test_errors_values(self):
+        errors = importlib.import_module("toolroad.errors")
+        for name, kind in inspect.getmembers(errors, inspect.isclass):
+            with self.subTest(name):
+                self.assertEqual(kind.__module__, "toolroad.errors")
+                if name in VALUES:
+                    self.assertEqual(list(inspect.signature(kind.__init__).parameters)[1:], VALUES[name])
+
+    def test_errors_by_their_values_names(self):
+        errors = importlib.import_module("toolroad.errors")
+        for name, values in VALUES.items():
+            with self.subTest(name):
+                made = getattr(errors, name)(**{value: 5 for value in values})
+                self.assertEqual([getattr(made, value) for value in values], [5 for _ in values])
+
+
+if __name__ == "__main__":
+    unittest.main()

@@ -1,0 +1,91 @@
+"""Of ../shared/LANGUAGE.md what can be seen by its files' lines, words and imports alone."""
+
+import ast
+import re
+import unittest
+from pathlib import Path
+
+PACKAGE = Path(__file__).resolve().parent.parent / "toolroad"
+LIBRARY = {
+    "heapq": {"heappush", "heappop", "heapify", "heapreplace", "heappushpop"},
+    "math": {"gcd", "lcm", "isqrt", "comb", "perm", "factorial"},
+    "itertools": {"product", "combinations", "permutations", "chain", "accumulate", "pairwise", "islice",
+                  "zip_longest"},
+    "collections": {"defaultdict"},
+}
+BARRED = {
+    "type", "typing", "typing_extensions", "enum", "Enum", "IntEnum", "StrEnum", "Flag", "IntFlag", "Generic",
+    "Protocol", "ABC", "ABCMeta", "namedtuple", "NamedTuple", "TypedDict", "TYPE_CHECKING", "abstractmethod",
+    "register", "mro", "elements", "open", "input", "law", "version_info", "with_traceback", "add_note",
+}
+
+
+def files():
+    return sorted(path for path in PACKAGE.rglob("*") if "__pycache__" not in path.parts)
+
+
+def nodes():
+    """Each file's name with each node of its tree."""
+    trees = [(path.name, ast.parse(path.read_text(encoding="ascii"))) for path in files()]
+    return [(name, node) for name, tree in trees for node in ast.walk(tree)]
+
+
+def is_library(node):
+    names = {name.name for name in node.names}
+    return names <= LIBRARY.get(node.module, set()) and all(name.asname is None for name in node.names)
+
+
+class LanguageTest(unittest.TestCase):
+    def test_files(self):
+        self.assertTrue((PACKAGE / "__init__.py").is_file())
+        for path in files():
+            with self.subTest(path.name):
+                self.assertRegex(path.name, r"^[a-z0-9_]+\.py$")
+                self.assertEqual(path.parent, PACKAGE)
+
+    def test_characters_and_sizes(self):
+        for path in files():
+            text = path.read_text(encoding="ascii")
+            with self.subTest(path.name):
+                self.assertRegex(text, r"\A[ -~\n]*\Z")
+                self.assertLess(len(text.split("\n")), 400)
+                self.assertLessEqual(max(map(len, text.split("\n"))), 120)
+
+    def test_functions_are_small(self):
+        for file, node in nodes():
+            if isinstance(node, ast.FunctionDef):
+                with self.subTest(file=file, function=node.name):
+                    self.assertLessEqual(node.end_lineno - node.lineno + 1, 40)
+
+    def test_imports(self):
+        for file, node in nodes():
+            if isinstance(node, (ast.Import, ast.ImportFrom)):
+                with self.subTest(file=file, line=node.lineno):
+                    self.assertEqual(node.col_offset, 0)
+                    self.assertIsInstance(node, ast.ImportFrom)
+                    self.assertEqual(node.level, 0)
+                    self.assertTrue(node.module.startswith("toolroad.") or is_library(node))
+
+    def test_no_floats(self):
+        for file, node in nodes():
+            with self.subTest(file=file, line=getattr(node, "lineno", 0)):
+                self.assertNotIsInstance(node, ast.Div)
+                self.assertNotIsInstance(getattr(node, "value", None), (float, complex))
+
+    def test_words_that_are_not_used(self):
+        for path in files():
+            with self.subTest(path.name):
+                tree = without_docstrings(ast.parse(path.read_text(encoding="ascii")))
+                used = set(re.findall(r"\w+", ast.unparse(tree)))
+                self.assertEqual(used & BARRED, set())
+
+
+def without_docstrings(tree):
+    for node in ast.walk(tree):
+        if isinstance(node, (ast.Module, ast.ClassDef, ast.FunctionDef)) and ast.get_docstring(node) is not None:
+            node.body[0] = ast.Pass()
+    return ast.fix_missing_locations(tree)
+
+
+if __name__ == "__main__":
+    unittest.main()
