@@ -4,17 +4,13 @@ from fractions import Fraction
 
 from toolroad.amounts import is_below, is_number, minus, number_text, over, plus, ratio, root, times, whole
 from toolroad.errors import MillError, OverNought
-from telling import GREAT, GREATER, OTHER_PRIME, PRIME, Telling, nested
+from telling import GREAT, GREATER, OTHER_PRIME, PRIME, Telling, nested, number
 
 NUMBERS = sorted({Fraction(top, bottom) for top in range(-7, 8) for bottom in range(1, 7)})
 GREAT_NUMBERS = [
     Fraction(GREAT, GREATER), Fraction(-GREATER, GREAT), Fraction(GREATER), Fraction(-1, GREATER),
     Fraction(PRIME, OTHER_PRIME), Fraction(1 - GREAT, 2),
 ]
-
-
-def number(fraction):
-    return (fraction.numerator, fraction.denominator)
 
 
 def pairs():

@@ -22,7 +22,34 @@ FUNCTIONS = {
         "distance": "(one, other)",
         "heading_to": "(one, other)",
     },
+    "toolroad.steps": {
+        "is_step": "(thing)",
+        "is_cut": "(thing)",
+        "headings": "(cut)",
+        "lies_on": "(cut, place)",
+    },
+    "toolroad.rows": {
+        "read_program": "(text)",
+        "program_text": "(rows)",
+    },
+    "toolroad.frames": {
+        "led_place": "(frames, place)",
+        "led_direction": "(frames, place)",
+        "led_from": "(frames, place)",
+        "is_about": "(frames)",
+    },
+    "toolroad.roads": {
+        "road_of": "(text)",
+    },
 }
+# Each class of these files, with its methods: each stands in the class itself.
+CLASSES = {
+    "toolroad.roads": {
+        "Road": {"__init__": "(self, entries)", "entries": "(self)", "__len__": "(self)", "__eq__": "(self, other)",
+                 "__repr__": "(self)"},
+    },
+}
+CONSTANTS = {"toolroad.rows": {"MOST_ROWS": 80}}
 # The errors' values, by their places; those that are not here have none.
 VALUES = {
     "NoText": ["at"], "Uneven": ["row"], "NoFrame": ["row"], "TooDeep": ["row"], "TooMany": ["most"],
@@ -40,6 +67,23 @@ class InterfaceTest(unittest.TestCase):
                     self.assertEqual(str(inspect.signature(function)), due)
                     self.assertEqual(function.__module__, file)
                     self.assertEqual(function.__name__, name)
+
+    def test_classes(self):
+        for file, classes in CLASSES.items():
+            for name, methods in classes.items():
+                kind = getattr(importlib.import_module(file), name)
+                self.assertTrue(inspect.isclass(kind))
+                self.assertEqual((kind.__module__, kind.__name__), (file, name))
+                for method, due in methods.items():
+                    with self.subTest(file=file, name=name, method=method):
+                        self.assertIn(method, vars(kind))
+                        self.assertEqual(str(inspect.signature(vars(kind)[method])), due)
+
+    def test_constants(self):
+        for file, constants in CONSTANTS.items():
+            for name, due in constants.items():
+                with self.subTest(file=file, name=name):
+                    self.assertEqual(repr(getattr(importlib.import_module(file), name)), repr(due))
 
     def test_errors_values(self):
         errors = importlib.import_module("toolroad.errors")

@@ -1,6 +1,7 @@
 """Of ../shared/LANGUAGE.md what can be seen by its files' lines, words and imports alone."""
 
 import ast
+import builtins
 import re
 import unittest
 from pathlib import Path
@@ -17,6 +18,14 @@ BARRED = {
     "type", "typing", "typing_extensions", "enum", "Enum", "IntEnum", "StrEnum", "Flag", "IntFlag", "Generic",
     "Protocol", "ABC", "ABCMeta", "namedtuple", "NamedTuple", "TypedDict", "TYPE_CHECKING", "abstractmethod",
     "register", "mro", "elements", "open", "input", "law", "version_info", "with_traceback", "add_note",
+}
+
+BUILTINS = {
+    "len", "range", "enumerate", "zip", "min", "max", "sum", "abs", "sorted", "reversed", "int", "str", "bool", "list",
+    "tuple", "dict", "set", "isinstance", "ord", "repr", "any", "all", "divmod", "pow", "iter", "next", "map",
+    "getattr", "hasattr", "setattr", "super", "property", "staticmethod", "classmethod", "NotImplemented", "Exception",
+    "ValueError", "TypeError", "KeyError", "IndexError", "LookupError", "ZeroDivisionError", "ArithmeticError",
+    "OverflowError", "RuntimeError", "NotImplementedError", "AttributeError", "StopIteration",
 }
 
 
@@ -71,6 +80,34 @@ class LanguageTest(unittest.TestCase):
             with self.subTest(file=file, line=getattr(node, "lineno", 0)):
                 self.assertNotIsInstance(node, ast.Div)
                 self.assertNotIsInstance(getattr(node, "value", None), (float, complex))
+
+    def test_builtins(self):
+        for file, node in nodes():
+            if isinstance(node, ast.Name) and hasattr(builtins, node.id):
+                with self.subTest(file=file, line=node.lineno, name=node.id):
+                    self.assertIsInstance(node.ctx, ast.Load)
+                    self.assertIn(node.id, BUILTINS)
+            if isinstance(node, (ast.FunctionDef, ast.ClassDef)) and not node.name.startswith("__"):
+                self.assertFalse(hasattr(builtins, node.name), node.name)
+            if isinstance(node, ast.arg):
+                self.assertFalse(hasattr(builtins, node.arg), node.arg)
+
+    def test_lists_instead_of_generator_expressions(self):
+        # A class has == of its own: any, all and the like take a list.
+        for file, node in nodes():
+            with self.subTest(file=file, line=getattr(node, "lineno", 0)):
+                self.assertNotIsInstance(node, ast.GeneratorExp)
+
+    def test_imports_are_not_named_anew(self):
+        for path in files():
+            tree = ast.parse(path.read_text(encoding="ascii"))
+            imports = {name.name for node in tree.body if isinstance(node, ast.ImportFrom) for name in node.names}
+            for node in ast.walk(tree):
+                with self.subTest(file=path.name, line=getattr(node, "lineno", 0)):
+                    if isinstance(node, ast.arg):
+                        self.assertNotIn(node.arg, imports)
+                    if isinstance(node, ast.Name) and not isinstance(node.ctx, ast.Load):
+                        self.assertNotIn(node.id, imports)
 
     def test_words_that_are_not_used(self):
         for path in files():

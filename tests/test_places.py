@@ -3,23 +3,10 @@ from fractions import Fraction
 
 from toolroad.errors import MillError, NoHeading
 from toolroad.places import distance, heading_of, heading_to, turned
-from telling import GREAT, GREATER, PRIME, Telling
+from telling import GREAT, GREATER, PRIME, Telling, fractions, number, place
 
 SMALL = range(-6, 7)
 SOME = [Fraction(-5, 2), Fraction(-1), Fraction(0), Fraction(1, 3), Fraction(2)]
-
-
-def number(fraction):
-    fraction = Fraction(fraction)
-    return (fraction.numerator, fraction.denominator)
-
-
-def place(x, y):
-    return (number(x), number(y))
-
-
-def fractions(told):
-    return (Fraction(*told[0]), Fraction(*told[1]))
 
 
 class HeadingOfTest(Telling):

@@ -40,6 +40,11 @@ def minus(u, v):
     return ratio(u[0] * v[1] - v[0] * u[1], u[1] * v[1])
 
 
+def opposite(u):
+    """The number with the other sign."""
+    return (-u[0], u[1])
+
+
 def times(u, v):
     """The product of two numbers."""
     return ratio(u[0] * v[0], u[1] * v[1])

@@ -1,9 +1,15 @@
 """Places: tuples (x, y) of numbers. A heading is a place at the distance 1 from ((0, 1), (0, 1))."""
 
-from toolroad.amounts import minus, over, plus, ratio, root, times
+from toolroad.amounts import is_number, minus, opposite, over, plus, ratio, root, times
 from toolroad.errors import NoHeading
 
 NOUGHT = (0, 1)
+ORIGIN = ((0, 1), (0, 1))
+
+
+def is_place(thing):
+    """Whether any thing is a place."""
+    return isinstance(thing, tuple) and len(thing) == 2 and is_number(thing[0]) and is_number(thing[1])
 
 
 def heading_of(p, q):
@@ -21,21 +27,52 @@ def turned(place, by):
     return (minus(times(x, c), times(y, s)), plus(times(x, s), times(y, c)))
 
 
+def mirrored(place):
+    """A place with the other sign of its y."""
+    return (place[0], opposite(place[1]))
+
+
+def scaled(place, by):
+    """A place whose x and y are so many times as great."""
+    return (times(place[0], by), times(place[1], by))
+
+
+def added(one, other):
+    """Two places' sum, in x and in y."""
+    return (plus(one[0], other[0]), plus(one[1], other[1]))
+
+
 def difference(one, other):
     """What leads from one place to another one, as a place."""
     return (minus(other[0], one[0]), minus(other[1], one[1]))
 
 
+def dot(one, other):
+    """x times x and y times y together: 0 where the two directions are square to one another."""
+    return plus(times(one[0], other[0]), times(one[1], other[1]))
+
+
+def cross(one, other):
+    """A number above 0 where the other direction is to the left of the one, below 0 where to the right."""
+    return minus(times(one[0], other[1]), times(one[1], other[0]))
+
+
 def distance(one, other):
     """The distance of two places: a number, or None where it is none."""
-    x, y = difference(one, other)
-    return root(plus(times(x, x), times(y, y)))
+    apart = difference(one, other)
+    return root(dot(apart, apart))
+
+
+def span(one, other):
+    """The distance of two places where it is a number above 0, else None."""
+    far = distance(one, other)
+    return None if far == NOUGHT else far
 
 
 def heading_to(one, other):
     """The heading from one place to another one."""
-    far = distance(one, other)
-    if far is None or far == NOUGHT:
+    far = span(one, other)
+    if far is None:
         raise NoHeading("the distance of the two places is no number above 0")
     x, y = difference(one, other)
     return (over(x, far), over(y, far))
