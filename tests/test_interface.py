@@ -41,6 +41,22 @@ FUNCTIONS = {
     "toolroad.roads": {
         "road_of": "(text)",
     },
+    "toolroad.states": {
+        "state_at": "(text, number)",
+        "read_state": "(text, row)",
+        "road_from": "(text, state)",
+    },
+    "toolroad.ways": {
+        "way_of": "(road)",
+    },
+    "toolroad.chords": {
+        "chords": "(arc, *, within)",
+        "are_chords": "(arc, thing, *, within)",
+    },
+    "toolroad.limits": {
+        "entry_caps": "(way, *, pull=(2, 1))",
+        "joint_caps": "(way, *, pull=(2, 1), jolt=(1, 1))",
+    },
 }
 # Each class of these files, with its methods: each stands in the class itself.
 CLASSES = {
@@ -48,8 +64,15 @@ CLASSES = {
         "Road": {"__init__": "(self, entries)", "entries": "(self)", "__len__": "(self)", "__eq__": "(self, other)",
                  "__repr__": "(self)"},
     },
+    "toolroad.states": {
+        "State": {"__init__": "(self, trail, place, mode, pace, side, frames)", "__eq__": "(self, other)",
+                  "__str__": "(self)", "__repr__": "(self)"},
+    },
 }
-CONSTANTS = {"toolroad.rows": {"MOST_ROWS": 80}}
+CONSTANTS = {
+    "toolroad.rows": {"MOST_ROWS": 80},
+    "toolroad.limits": {"PULL": (2, 1), "JOLT": (1, 1), "UP": (1, 1), "DOWN": (1, 2)},
+}
 # The errors' values, by their places; those that are not here have none.
 VALUES = {
     "NoText": ["at"], "Uneven": ["row"], "NoFrame": ["row"], "TooDeep": ["row"], "TooMany": ["most"],

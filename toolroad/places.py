@@ -1,6 +1,6 @@
 """Places: tuples (x, y) of numbers. A heading is a place at the distance 1 from ((0, 1), (0, 1))."""
 
-from toolroad.amounts import is_number, minus, opposite, over, plus, ratio, root, times
+from toolroad.amounts import is_number, minus, number_text, opposite, over, plus, ratio, root, times
 from toolroad.errors import NoHeading
 
 NOUGHT = (0, 1)
@@ -10,6 +10,12 @@ ORIGIN = ((0, 1), (0, 1))
 def is_place(thing):
     """Whether any thing is a place."""
     return isinstance(thing, tuple) and len(thing) == 2 and is_number(thing[0]) and is_number(thing[1])
+
+
+def place_text(place):
+    """The text of a place."""
+    x, y = place
+    return f"{number_text(x)},{number_text(y)}"
 
 
 def heading_of(p, q):
@@ -25,6 +31,11 @@ def turned(place, by):
     x, y = place
     c, s = by
     return (minus(times(x, c), times(y, s)), plus(times(x, s), times(y, c)))
+
+
+def left_of(heading):
+    """The heading square to this one, to its left."""
+    return turned(heading, ((0, 1), (1, 1)))
 
 
 def mirrored(place):

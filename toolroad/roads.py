@@ -73,7 +73,7 @@ def step_of(row, place, mode, frames):
 
 
 class Running:
-    """A program while it is run: what stands just now, and the entries that were made."""
+    """A program while it is run: what stands just now, the entries that were made, and what stood ahead of each."""
 
     def __init__(self, rows):
         self.rows = rows
@@ -87,6 +87,12 @@ class Running:
         self.frames_put = [[]]
         self.rows_done = 0
         self.made = []
+        self.stood = []
+
+    def standing(self, trail):
+        """What a state keeps: (trail, place, mode, pace, side, frames)."""
+        frames = tuple([tuple(put) for put in self.frames_put])
+        return (trail, self.place, self.mode, self.pace, self.side, frames)
 
     def all_frames(self):
         """All frames that there are, as a tuple."""
@@ -122,8 +128,10 @@ class Running:
         step = step_of(row, self.place, self.mode, frames)
         if not is_step(step):
             raise Uneven(at)
+        trail = (*self.calls, (at, 0))
         side = opposite(self.side) if is_about(frames) else self.side
-        self.made.append((step, self.pace, side, (*self.calls, (at, 0))))
+        self.stood.append(self.standing(trail))
+        self.made.append((step, self.pace, side, trail))
         self.place = step[2]
 
     def put_frame(self, at, row):
@@ -142,12 +150,50 @@ class Running:
         """Do a piece turn by turn."""
         if len(self.calls) == MOST_CALLS:
             raise TooDeep(at)
-        for turn in range(row[2]):
-            self.calls.append((at, turn))
-            self.frames_put.append([])
+        self.do_turns(at, row, 0)
+
+    def do_turns(self, at, row, first):
+        """Do a call's turns from the first one that is told."""
+        for turn in range(first, row[2]):
+            self.begin_turn((at, turn), ())
             self.do_block(row[1])
-            self.frames_put.pop()
-            self.calls.pop()
+            self.end_turn()
+
+    def begin_turn(self, call, frames):
+        """Go within a call, a tuple (row, turn), where these frames are put in that turn."""
+        self.calls.append(call)
+        self.frames_put.append(list(frames))
+
+    def end_turn(self):
+        """Go out of the call; what its turn put goes with it."""
+        self.frames_put.pop()
+        self.calls.pop()
+
+    def go_on_from(self, state):
+        """Do all that is left where a state stands."""
+        self.place = state.place
+        self.mode = state.mode
+        self.pace = state.pace
+        self.side = state.side
+        self.frames_put = [list(state.frames[0])]
+        # The program's end has a number that no row has.
+        if state.trail[0][0] < len(self.rows):
+            self.do_rest(None, state.trail, state.frames)
+
+    def do_rest(self, name, trail, frames):
+        """Do what is left of a block, with the trail and the frames of a state from this block's own on."""
+        block = self.blocks[name]
+        at, turn = trail[0]
+        first = block.index(at)
+        if len(trail) > 1:
+            row = self.rows[at]
+            self.begin_turn((at, turn), frames[1])
+            self.do_rest(row[1], trail[1:], frames[1:])
+            self.end_turn()
+            self.do_turns(at, row, turn + 1)
+            first += 1
+        for left_at in block[first:]:
+            self.do_row(left_at)
 
     def set_by(self, row):
         """Set the pace, the side or the mode."""
@@ -159,8 +205,14 @@ class Running:
             self.mode = row[0]
 
 
-def road_of(text):
-    """The road of a program."""
+def run_program(text):
+    """A program's Running, when all is done."""
     running = Running(read_program(text))
     running.do_block(None)
-    return Road(running.made)
+    running.stood.append(running.standing(((len(running.rows), 0),)))
+    return running
+
+
+def road_of(text):
+    """The road of a program."""
+    return Road(run_program(text).made)

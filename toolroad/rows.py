@@ -1,6 +1,6 @@
 """Programs: texts of rows, read to tuples and written back."""
 
-from toolroad.amounts import is_below, number_text, ratio
+from toolroad.amounts import is_below, is_number, number_text
 from toolroad.errors import NoPiece, NoText, TooMany
 
 MOST_ROWS = 80
@@ -13,27 +13,40 @@ def is_made_of(signs, text, most):
     return 1 <= len(text) <= most and all([sign in signs for sign in text])
 
 
-def number_in(word):
-    """The number that a word tells, None where it tells none of a row's numbers."""
-    top, stroke, bottom = word.partition("/")
-    if not stroke:
-        bottom = "1"
-    if not is_made_of(FIGURES, top.removeprefix("-"), 4) or not is_made_of(FIGURES, bottom, 3):
-        return None
-    if int(bottom) == 0:
-        return None
-    told = ratio(int(top), int(bottom))
-    # A number has one text: noughts ahead, "-0", a bottom of 1 and terms not the lowest are unlike it.
-    return told if number_text(told) == word else None
+def is_plain(figures, most):
+    """Whether a text has one to so many figures, without a nought ahead."""
+    return is_made_of(FIGURES, figures, most) and (figures == "0" or figures[0] != "0")
+
+
+def whole_in(figures):
+    """The whole number that figures tell."""
+    # Figure by figure, since Python's int refuses a text of too many.
+    told = 0
+    for figure in figures:
+        told = 10 * told + int(figure)
+    return told
 
 
 # Each reader tells a list of the one thing that the word is read as, an empty one where it is none such.
 
 
+def read_number_within(word, above, below):
+    """A number of at most so many figures above and below."""
+    top, stroke, bottom = word.partition("/")
+    figures = top.removeprefix("-")
+    if top == "-0" or bottom == "1" or not is_plain(figures, above):
+        return []
+    if stroke and not is_plain(bottom, below):
+        return []
+    told = (whole_in(figures), whole_in(bottom) if stroke else 1)
+    if not is_number(told):
+        return []
+    return [(-told[0], told[1]) if top.startswith("-") else told]
+
+
 def read_number(word):
-    """A number."""
-    told = number_in(word)
-    return [] if told is None else [told]
+    """A number of a row."""
+    return read_number_within(word, 4, 3)
 
 
 def read_coordinate(word):

@@ -37,6 +37,11 @@ def is_arc(thing):
     return radius is not None and distance(centre, end) == radius
 
 
+def radius_of(arc):
+    """An arc's radius."""
+    return distance(arc[3], arc[1])
+
+
 def headings(cut):
     """A cut's headings: (at its begin, at its end)."""
     if cut[0] == "line":
