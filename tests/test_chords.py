@@ -128,7 +128,8 @@ class AreChordsTest(Telling):
         made = arc((5, 0), (0, 5))
         good = [(5, 0), (4, 3), (3, 4), (0, 5)]
         self.say(True, made, good, 1)
-        for places in ([], [(5, 0)], [(0, 5)], good[1:], good[:-1], good[1:-1], good[::-1], good + [(-3, 4)], good + good,
+        for places in ([], [(5, 0)], [(0, 5)], good[1:], good[:-1], good[1:-1], good[::-1], good + [(-3, 4)],
+                       good + good,
                        [(4, -3)] + good, good + [(0, 5)], [(5, 0)] + good, [(0, 5), *good[1:]], [*good[:-1], (5, 0)],
                        [(5, 0), (5, 0)], [(0, 5), (0, 5)], [(0, 0), *good[1:]], [*good[:-1], (0, 0)]):
             self.say(False, made, places, 1)
@@ -144,7 +145,8 @@ class AreChordsTest(Telling):
 
     def test_each_further_on(self):
         made = arc((5, 0), (-5, 0))
-        for places in ([(5, 0), (3, 4), (4, 3), (-5, 0)], [(5, 0), (4, 3), (4, 3), (-5, 0)], [(5, 0), (5, 0), (0, 5), (-5, 0)],
+        for places in ([(5, 0), (3, 4), (4, 3), (-5, 0)], [(5, 0), (4, 3), (4, 3), (-5, 0)],
+                       [(5, 0), (5, 0), (0, 5), (-5, 0)],
                        [(5, 0), (0, 5), (-5, 0), (-5, 0)], [(5, 0), (0, 5), (3, 4), (-3, 4), (-5, 0)],
                        [(5, 0), (4, 3), (5, 0), (0, 5), (-5, 0)], [(5, 0), (0, 5), (-5, 0), (-4, 3), (-5, 0)]):
             self.say(False, made, places, 9)
@@ -164,7 +166,8 @@ class AreChordsTest(Telling):
         made = arc((5, 0), (5, 0))
         self.say(True, made, [(5, 0), (-4, 3), (-4, -3), (5, 0)], 9)
         self.say(True, made, [(5, 0), (0, 5), (-5, 0), (0, -5), (5, 0)], 9)
-        for places in ([(5, 0), (5, 0)], [(5, 0), (-5, 0), (5, 0)], [(5, 0), (0, 5), (5, 0)], [(5, 0), (0, -5), (5, 0)],
+        for places in ([(5, 0)], [], [(5, 0), (5, 0)], [(5, 0), (-5, 0), (5, 0)], [(5, 0), (0, 5), (5, 0)],
+                       [(5, 0), (0, -5), (5, 0)],
                        [(5, 0), (0, -5), (-5, 0), (0, 5), (5, 0)], [(5, 0), (0, 5), (0, -5), (5, 0)],
                        [(5, 0), (0, 5), (-5, 0), (5, 0), (0, -5), (5, 0)], [(5, 0), (5, 0), (5, 0)],
                        [(5, 0), (0, 5), (-5, 0), (0, -5)], [(0, 5), (-5, 0), (0, -5), (5, 0)],
@@ -174,7 +177,8 @@ class AreChordsTest(Telling):
     def test_the_middles_distance(self):
         # From (3, -4) to (3, 4) the middle is 3 from the centre, by the radius 5.
         made = arc((3, -4), (3, 4))
-        for within, due in [(2, True), (2 - TINY, False), (2 + TINY, True), (1, False), (3, True), (5, True), (TINY, False),
+        for within, due in [(2, True), (2 - TINY, False), (2 + TINY, True), (1, False), (3, True), (5, True),
+                            (TINY, False),
                             (5 - TINY, True), (5 + TINY, True), (GREATER, True)]:
             self.say(due, made, [(3, -4), (3, 4)], within)
         self.say(True, made, [(3, -4), (5, 0), (3, 4)], 1)
@@ -212,7 +216,8 @@ class AreChordsTest(Telling):
     def test_any_thing(self):
         made = ARCS[0]
         begin, end = made[1], made[2]
-        for thing in [*OTHER_THINGS, (begin, end), begin, [begin, None], [None, end], [begin, [], end], [begin, True, end],
+        for thing in [*OTHER_THINGS, (begin, end), begin, [begin, None], [None, end], [begin, [], end],
+                      [begin, True, end],
                       [begin, "", end], [[begin, end]], ((begin, end),), [begin, end, None], [list(begin), end],
                       [begin, list(end)], [begin, ((5, 1),), end], [begin, ((5, 1), 0), end], [((5, 1), (0, 2)), end],
                       [((5, 1), (0, -1)), end], [((5, True), (0, 1)), end], [((10, 2), (0, 1)), end],

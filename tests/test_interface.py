@@ -57,6 +57,14 @@ FUNCTIONS = {
         "entry_caps": "(way, *, pull=(2, 1))",
         "joint_caps": "(way, *, pull=(2, 1), jolt=(1, 1))",
     },
+    "toolroad.plans": {
+        "is_plan": "(way, thing, *, pull=(2, 1), jolt=(1, 1), up=(1, 1), down=(1, 2))",
+        "quickest": "(way, *, pull=(2, 1), jolt=(1, 1), up=(1, 1), down=(1, 2))",
+    },
+    "toolroad.papers": {
+        "paper_of": "(way, *, pull=(2, 1), jolt=(1, 1), up=(1, 1), down=(1, 2))",
+        "is_held": "(way, plan, thing, *, pull=(2, 1), jolt=(1, 1), up=(1, 1), down=(1, 2))",
+    },
 }
 # Each class of these files, with its methods: each stands in the class itself.
 CLASSES = {
@@ -67,6 +75,15 @@ CLASSES = {
     "toolroad.states": {
         "State": {"__init__": "(self, trail, place, mode, pace, side, frames)", "__eq__": "(self, other)",
                   "__str__": "(self)", "__repr__": "(self)"},
+    },
+    "toolroad.ahead": {
+        "Ahead": {"__init__": "(self, window, *, pull=(2, 1), jolt=(1, 1), up=(1, 1), down=(1, 2))",
+                  "feed": "(self, entry)", "close": "(self)", "__len__": "(self)"},
+    },
+    "toolroad.mill": {
+        "Mill": {"__init__": "(self, text)", "do": "(self, many=1)", "done": "(self)", "spot": "(self)",
+                 "is_down": "(self)", "state": "(self)", "log": "(self)", "leave": "(self)", "take_up": "(self)",
+                 "lifted": "(self, deed)", "__len__": "(self)"},
     },
 }
 CONSTANTS = {

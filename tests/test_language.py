@@ -109,6 +109,25 @@ class LanguageTest(unittest.TestCase):
                     if isinstance(node, ast.Name) and not isinstance(node.ctx, ast.Load):
                         self.assertNotIn(node.id, imports)
 
+    def test_no_name_is_a_method_and_an_attribute(self):
+        for file, node in nodes():
+            if isinstance(node, ast.ClassDef):
+                methods = {part.name for part in node.body if isinstance(part, ast.FunctionDef)}
+                stored = {part.attr for part in ast.walk(node)
+                          if isinstance(part, ast.Attribute) and isinstance(part.ctx, ast.Store)}
+                with self.subTest(file=file, name=node.name):
+                    self.assertEqual(methods & stored, set())
+
+    def test_attributes_that_are_read_are_assigned(self):
+        every = nodes()
+        attributes = [(file, node) for file, node in every if isinstance(node, ast.Attribute)]
+        stored = {node.attr for _, node in attributes if isinstance(node.ctx, ast.Store)}
+        called = [node.func for _, node in every if isinstance(node, ast.Call)]
+        for file, node in attributes:
+            if isinstance(node.ctx, ast.Load) and node not in called:
+                with self.subTest(file=file, line=node.lineno, name=node.attr):
+                    self.assertIn(node.attr, stored)
+
     def test_words_that_are_not_used(self):
         for path in files():
             with self.subTest(path.name):

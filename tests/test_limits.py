@@ -6,19 +6,15 @@ from toolroad.errors import MillError
 from toolroad.limits import DOWN, JOLT, PULL, UP, entry_caps, joint_caps
 from toolroad.roads import road_of
 from toolroad.ways import way_of
-from telling import GREATER, Telling, number, place
-from test_ways import Cut, dot, fractions, length, made_up, minus
+from telling import GREATER, Telling, fractions, number, place
+from test_ways import Cut, dot, length, made_up, minus
 
 TINY = Fraction(1, 10 ** 30)
 EAST, NORTH, WEST, SOUTH = (1, 0), (0, 1), (-1, 0), (0, -1)
 
 
-def hop(pace, end):
-    return ("hop", pace, end)
-
-
 def way_along(*parts):
-    """A way from (0, 0): of ("hop", pace, end), ("line", pace, heading, length) and ("arc", pace, out, heading, way)."""
+    """A way from (0, 0), of ("hop", pace, end), ("line", pace, heading, length), ("arc", pace, out, heading, way)."""
     x = y = Fraction(0)
     way = []
     for at, (word, pace, *rest) in enumerate(parts):
@@ -134,7 +130,8 @@ class JointCapsTest(Telling):
 
     def test_headings_unlike(self):
         # Square: g g 2 is at most jolt times jolt.
-        for jolt, due in [("1", 0), ("7/5", 0), ("3/2", 1), ("2", 1), ("14/5", 1), ("3", 2), ("9", 6), ("12", 8), ("13", 9),
+        for jolt, due in [("1", 0), ("7/5", 0), ("3/2", 1), ("2", 1), ("14/5", 1), ("3", 2), ("9", 6), ("12", 8),
+                          ("13", 9),
                           ("100", 9)]:
             for one, other in [(EAST, NORTH), (EAST, SOUTH), (NORTH, EAST), (WEST, NORTH)]:
                 self.between(due, ("line", 9, one, 3), ("line", 9, other, 3), jolt=number(jolt))

@@ -50,7 +50,8 @@ class HopsTest(WaysTest):
 
     def test_hops_alone(self):
         self.led("hop 1 2", (hop((0, 0), (1, 2)), 0))
-        self.led("hop 1 2\nhop 1 2\nhop 0 0", (hop((0, 0), (1, 2)), 0), (hop((1, 2), (1, 2)), 1), (hop((1, 2), (0, 0)), 2))
+        self.led("hop 1 2\nhop 1 2\nhop 0 0", (hop((0, 0), (1, 2)), 0), (hop((1, 2), (1, 2)), 1),
+                 (hop((1, 2), (0, 0)), 2))
         self.led("side 3\nhop 1 2\nhop 5 5", (hop((0, 0), (1, 2)), 0), (hop((1, 2), (5, 5)), 1))
 
     def test_to_where_the_next_led_cut_begins(self):
@@ -63,19 +64,22 @@ class HopsTest(WaysTest):
         self.led("hop 1 1\nside 2\ncut 5 1\nhop 7 7", (hop((0, 0), (1, 3)), 0), (line((1, 3), (5, 3)), 1),
                  (hop((5, 3), (7, 7)), 2))
         self.led("hop 1 1\nside 2\ncut 5 1\nhop . .\nhop . .\nside 1\ncut 5 9", (hop((0, 0), (1, 3)), 0),
-                 (line((1, 3), (5, 3)), 1), (hop((5, 3), (5, 1)), 2), (hop((5, 1), (4, 1)), 3), (line((4, 1), (4, 9)), 4))
+                 (line((1, 3), (5, 3)), 1), (hop((5, 3), (5, 1)), 2), (hop((5, 1), (4, 1)), 3),
+                 (line((4, 1), (4, 9)), 4))
 
     def test_to_a_cut_without_a_side(self):
         self.led("hop 1 1\ncut 5 1\nside 1\nhop 5 1\ncut 5 9", (hop((0, 0), (1, 1)), 0), (line((1, 1), (5, 1)), 1),
                  (hop((5, 1), (4, 1)), 2), (line((4, 1), (4, 9)), 3))
-        self.led("hop 0 1\nside 1\ncut 5 1\nside 0\nhop 5 5\ncut 5 9", (hop((0, 0), (0, 2)), 0), (line((0, 2), (5, 2)), 1),
+        self.led("hop 0 1\nside 1\ncut 5 1\nside 0\nhop 5 5\ncut 5 9", (hop((0, 0), (0, 2)), 0),
+                 (line((0, 2), (5, 2)), 1),
                  (hop((5, 2), (5, 5)), 2), (line((5, 5), (5, 9)), 3))
 
     def test_behind_an_arc_round_a_corner(self):
         self.led(text_of(-1, *LEFT_SQUARE) + "\nhop 9 9",
                  (hop((0, 0), (0, -1)), 0), (line((0, -1), (4, -1)), 1), (arc((4, -1), (5, 0), (4, 0), 1), 1),
                  (line((5, 0), (5, 4)), 2), (arc((5, 4), (4, 5), (4, 4), 1), 2), (line((4, 5), (0, 5)), 3),
-                 (arc((0, 5), (-1, 4), (0, 4), 1), 3), (line((-1, 4), (-1, 0)), 4), (arc((-1, 0), (0, -1), (0, 0), 1), 4),
+                 (arc((0, 5), (-1, 4), (0, 4), 1), 3), (line((-1, 4), (-1, 0)), 4),
+                 (arc((-1, 0), (0, -1), (0, 0), 1), 4),
                  (hop((0, -1), (9, 9)), 5))
 
     def test_paces(self):
@@ -139,7 +143,8 @@ class LinesTest(WaysTest):
                  (arc((4, -1), ("24/5", "3/5"), (4, 0), 1), 1), (line(("24/5", "3/5"), ("9/5", "23/5")), 2))
 
     def test_closed_within(self):
-        self.led(text_of(1, *LEFT_SQUARE), (hop((0, 0), (1, 1)), 0), (line((1, 1), (3, 1)), 1), (line((3, 1), (3, 3)), 2),
+        self.led(text_of(1, *LEFT_SQUARE), (hop((0, 0), (1, 1)), 0), (line((1, 1), (3, 1)), 1),
+                 (line((3, 1), (3, 3)), 2),
                  (line((3, 3), (1, 3)), 3), (line((1, 3), (1, 1)), 4))
         self.led(text_of("-1/2", *RIGHT_SQUARE, begin="hop 1 1"), (hop((0, 0), ("3/2", "3/2")), 0),
                  (line(("3/2", "3/2"), ("3/2", "9/2")), 1), (line(("3/2", "9/2"), ("9/2", "9/2")), 2),
@@ -156,7 +161,8 @@ class LinesTest(WaysTest):
                  (line((3, 1), (3, 3)), 2), (line((3, 3), (1, 3)), 3), (line((1, 3), (1, "1/2")), 4))
 
     def test_closed_where_a_line_begins_midway(self):
-        self.led(text_of(1, EAST + " 2", *LEFT_SQUARE[1:], EAST + " 2"), (hop((0, 0), (0, 1)), 0), (line((0, 1), (1, 1)), 1),
+        self.led(text_of(1, EAST + " 2", *LEFT_SQUARE[1:], EAST + " 2"), (hop((0, 0), (0, 1)), 0),
+                 (line((0, 1), (1, 1)), 1),
                  (line((1, 1), (1, 3)), 2), (line((1, 3), (-1, 3)), 3), (line((-1, 3), (-1, 1)), 4),
                  (line((-1, 1), (0, 1)), 5))
 
@@ -190,7 +196,8 @@ class ArcsTest(WaysTest):
                      (arc((x, 0), (x, 0), (0, 0), 1 if way == "left" else -1), 1))
 
     def test_straight_on(self):
-        self.led(text_of(1, EAST + " 4", "left 0 3 1 1", NORTH + " 4"), (hop((0, 0), (0, 1)), 0), (line((0, 1), (4, 1)), 1),
+        self.led(text_of(1, EAST + " 4", "left 0 3 1 1", NORTH + " 4"), (hop((0, 0), (0, 1)), 0),
+                 (line((0, 1), (4, 1)), 1),
                  (arc((4, 1), (6, 3), (4, 3), 1), 2), (line((6, 3), (6, 7)), 3))
 
     def test_without(self):
@@ -203,7 +210,8 @@ class ArcsTest(WaysTest):
     def test_straight_back(self):
         self.led(text_of(1, EAST + " 4", "right 0 2 1 1"), (hop((0, 0), (0, 1)), 0), (line((0, 1), (4, 1)), 1),
                  (arc((4, 1), (4, -1), (4, 0), -1), 1), (arc((4, -1), (1, 2), (4, 2), -1), 2))
-        self.led(text_of(1, "left 0 2 1 1", "right -2 0 1 1"), (hop((0, 0), (0, 1)), 0), (arc((0, 1), (1, 2), (0, 2), 1), 1),
+        self.led(text_of(1, "left 0 2 1 1", "right -2 0 1 1"), (hop((0, 0), (0, 1)), 0),
+                 (arc((0, 1), (1, 2), (0, 2), 1), 1),
                  (arc((1, 2), (3, 2), (2, 2), -1), 1), (arc((3, 2), (0, -1), (0, 2), -1), 2),
                  (arc((0, -1), (0, 1), (0, 0), -1), 2))
 
@@ -447,7 +455,8 @@ def made_up(chance):
 
     def turn():
         x, y = chance.choice([(3, 4), (0, 2), (2, 0), (-4, 3), (0, -1), (-5, 0), ("1/2", 0)])
-        return f"{chance.choice(['left', 'right'])} {x} {y} {chance.choice(['1 1', '1 2', '1 0', '2 1', '-1 1', '0 1'])}"
+        parts = chance.choice(["1 1", "1 2", "1 0", "2 1", "-1 1", "0 1"])
+        return f"{chance.choice(['left', 'right'])} {x} {y} {parts}"
 
     def loop():
         kind = chance.randrange(5)
@@ -458,7 +467,8 @@ def made_up(chance):
             return chance.choice([["run 0 1 4", "run 1 1 3", "cut -4 -3"], ["cut 4 3", "run 1 0 4", "run -1 1 3"]])
         if kind == 2:
             return chance.choice([["left -2 0 1 0", "run 0 1 4"], ["right 2 0 1 0", "run 1 0 4"],
-                                  ["left 0 5 1 0", "left 0 -5 1 0"], ["run 0 1 6", "left 0 3 1 0", "run 1 0 6", "left 0 -3 1 0"]])
+                                  ["left 0 5 1 0", "left 0 -5 1 0"],
+                                  ["run 0 1 6", "left 0 3 1 0", "run 1 0 6", "left 0 -3 1 0"]])
         if kind == 3:
             return [f"{chance.choice(['left', 'right'])} 0 3 0 1"]
         return [run()]
@@ -467,7 +477,7 @@ def made_up(chance):
     for _ in range(chance.randrange(1, 4)):
         rows += [chance.choice(["flip", f"turn {chance.choice(['1 2', '1 1', '1 3'])}"])] * (chance.randrange(4) == 0)
         rows.append(f"pace {chance.randrange(10)}")
-        rows.append(f"side {chance.choice(['0', '1', '-1', '1/2', '-1/2', '1/5', '-1/5', '2', '-2', '1/9', '-1/9', '-1/99'])}")
+        rows.append("side " + chance.choice("0 1 -1 1/2 -1/2 1/5 -1/5 2 -2 1/9 -1/9 -1/99".split()))
         if chance.randrange(2):
             rows += loop()
         rows += [chance.choice([run, run, turn])() for _ in range(chance.randrange(3))]

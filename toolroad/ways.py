@@ -101,7 +101,7 @@ def contours_of(entries):
         runs[-1].append(number)
     found = {}
     for run in runs:
-        contour = Contour([entries[number][0] for number in run], entries[run[0]][2])
+        contour = Contour([entries[at][0] for at in run], entries[run[0]][2])
         for k, number in enumerate(run):
             found[number] = (contour, k)
     return found
