@@ -44,6 +44,27 @@ def is_library(node):
     return names <= LIBRARY.get(node.module, set()) and all(name.asname is None for name in node.names)
 
 
+def is_plain(node):
+    """Whether a name, an attribute off a name, a literal, or a list, tuple or dict of these."""
+    if isinstance(node, (ast.List, ast.Tuple)):
+        return all(map(is_plain, node.elts))
+    if isinstance(node, ast.Dict):
+        return all(map(is_plain, [*node.keys, *node.values]))
+    if isinstance(node, ast.Attribute):
+        return isinstance(node.value, ast.Name)
+    return isinstance(node, (ast.Name, ast.Constant))
+
+
+def behind_stars(call):
+    """What stands in a call from its first star on, and all of it beside a double star."""
+    passed = [*call.args, *[word.value for word in call.keywords]]
+    starred = [k for k, part in enumerate(call.args) if isinstance(part, ast.Starred)]
+    if any(word.arg is None for word in call.keywords):
+        starred = [0]
+    behind = passed[starred[0]:] if starred else []
+    return [part.value if isinstance(part, ast.Starred) else part for part in behind]
+
+
 class LanguageTest(unittest.TestCase):
     def test_files(self):
         self.assertTrue((PACKAGE / "__init__.py").is_file())
@@ -91,6 +112,25 @@ class LanguageTest(unittest.TestCase):
                 self.assertFalse(hasattr(builtins, node.name), node.name)
             if isinstance(node, ast.arg):
                 self.assertFalse(hasattr(builtins, node.arg), node.arg)
+
+    def test_calls_with_stars(self):
+        for file, node in nodes():
+            if isinstance(node, ast.Call):
+                for part in behind_stars(node):
+                    with self.subTest(file=file, line=part.lineno):
+                        self.assertTrue(is_plain(part), ast.unparse(part))
+
+    def test_what_stands_behind_stars(self):
+        for row, plain in [
+            ("f(*xs)", True), ("f(k, *self.xs)", True), ("f(g(k), *xs)", True), ("f(*[1, k], n)", True),
+            ("f(*(xs, {1: k}), sep=n)", True), ("f(**d)", True), ("f(xs[0], k=g(k))", True),
+            ("f(*xs[0])", False), ("f(*self.xs[-1])", False), ("f(*xs[1:])", False), ("f(*g(k))", False),
+            ("f(*xs, ys[0])", False), ("f(*xs, sep=g(k))", False), ("f(*[xs[0]])", False), ("f(*a.b.c)", False),
+            ("f(**d[0])", False), ("f(g(k), **d)", False), ("f(*xs + ys)", False),
+        ]:
+            with self.subTest(row):
+                call = ast.parse(row).body[0].value
+                self.assertEqual(all(map(is_plain, behind_stars(call))), plain)
 
     def test_lists_instead_of_generator_expressions(self):
         # A class has == of its own: any, all and the like take a list.

@@ -70,9 +70,10 @@ class Mill:
 
     def state(self):
         """The state ahead of the step that leads the next entry."""
+        values = self.stood[-1]
         if self.many_done < len(self.way):
-            return State(*self.stood[self.way[self.many_done][2]])
-        return State(*self.stood[-1])
+            values = self.stood[self.way[self.many_done][2]]
+        return State(*values)
 
     def log(self):
         """A text for each thing that was done."""

@@ -153,7 +153,8 @@ def state_at(text, number):
     many = len(stood) - 1
     if number < 0 or number > many:
         raise NoStep(number, many)
-    return State(*stood[number])
+    values = stood[number]
+    return State(*values)
 
 
 def read_state(text, row):
